@@ -1,0 +1,1 @@
+"""Seamhall: pictures narrowed by least seams."""
