@@ -93,3 +93,68 @@ NO_PICTURES = {
     "a picture within a list": [SMALL],
     "a picture beside None": (SMALL, None),
 }
+
+
+def shaded(wide, high, shades, seed):
+    """A picture, or marks, of this size with numbers below shades, without a plain pattern; seed makes others."""
+    state = 7919 * seed + 104729 * wide + 1299709 * high + shades
+    rows = []
+    for y in range(high):
+        row = []
+        for x in range(wide):
+            state = (state * 1103515245 + 12345) % 2147483648
+            row.append(state // 65536 % shades)
+        rows.append(tuple(row))
+    return tuple(rows)
+
+
+def marks_for(wide, high, seed):
+    """Marks of this size: of each seven cells some four free, one kept, two to be gone."""
+    return tuple(tuple((0, 0, 0, 0, 1, 2, 2)[mark] for mark in row) for row in shaded(wide, high, 7, seed))
+
+
+def all_marks(wide, high):
+    """Many marks for a picture of this size: all kinds, and those that leave few ways, or none."""
+    free = (0,) * wide
+    told = [((mark,) * wide,) * high for mark in (0, 1, 2)]
+    for at in range(high):
+        for mark in (1, 2):
+            told.append((free,) * at + ((mark,) * wide,) + (free,) * (high - at - 1))
+    for at in range(wide):
+        for mark in (1, 2):
+            told.append(((0,) * at + (mark,) + (0,) * (wide - at - 1),) * high)
+        told.append(((1,) * at + (0,) + (1,) * (wide - at - 1),) * high)
+    # One open cell in each row, drifting: the only seam there is, and, where it jumps, none at all.
+    for step in (1, 2):
+        told.append(tuple(tuple(0 if x == step * y % wide else 1 for x in range(wide)) for y in range(high)))
+    told += [marks_for(wide, high, seed) for seed in range(3)]
+    told += [tuple(tuple(mark % 2 for mark in row) for row in marks_for(wide, high, 5))]
+    told += [tuple(tuple(mark // 2 * 2 for mark in row) for row in marks_for(wide, high, 6))]
+    return told
+
+
+# Small enough to go through all seams one by one; few shades, so that many seams cost the same.
+TINY_SIZES = [(1, 1), (1, 4), (4, 1), (2, 2), (2, 5), (5, 2), (3, 3), (4, 4), (3, 5), (5, 4)]
+TINY = [shaded(wide, high, shades, 1) for wide, high in TINY_SIZES for shades in (1, 2, 3, 100)]
+
+MANNERS = ("worth", "joins")
+
+# A picture of the largest size of each kind: of one shade, in squares, rising, and without a plain pattern.
+LARGE = [
+    ((42,) * 20,) * 20,
+    tuple(tuple(99 * ((x + y) % 2) for x in range(20)) for y in range(20)),
+    tuple(tuple(2 * x + 3 * y for x in range(20)) for y in range(20)),
+    shaded(20, 20, 100, 3),
+    shaded(20, 20, 2, 4),
+]
+
+# Things of all kinds; where some of them are right, the test leaves these out.
+THINGS = [
+    None, True, False, 0, 1, 2, 3, 4, 5, 19, 20, 21, -1, 60, 61, 10 ** 30, -(10 ** 30),
+    "", "0", "1", "a", "c", "r", "cr", "worth", "joins", "Worth", "worth ", "1 2 3\n",
+    (), (None,), (True,), (0,), (1,), ("worth",), ("c",), ((),), ((0,),), ((None,),), (((0,),),), ([],), ([0],),
+    [], [None], [True], [0], [1], ["worth"], ["c"], [()], [(0,)], [[]], [[0]], [((0,), (0,))], [([0], [0])],
+    SMALL, [SMALL], (SMALL,), (SMALL, None), [list(row) for row in SMALL],
+    deep(1, 6, tuple), deep(1, 6, list), deep(None, 6, tuple), deep("", 6, list), deep((), 5, tuple),
+    ([([(1, "a")], None)], [((True,),)]),
+]

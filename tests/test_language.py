@@ -1,6 +1,7 @@
 """The plainest rules of the part of Python that the package keeps to; what needs more than a look is not here."""
 
 import ast
+import builtins
 import pathlib
 import re
 import unittest
@@ -22,6 +23,35 @@ UNDERSCORED = {"__init__", "__eq__", "__repr__", "__str__", "__len__", "__all__"
 WORDS_OUT = re.compile(r"\b(type|typing|typing_extensions|enum|Enum|IntEnum|StrEnum|Flag|IntFlag|Generic|Protocol|ABC"
                        r"|ABCMeta|namedtuple|NamedTuple|TypedDict|TYPE_CHECKING|abstractmethod)\b"
                        r"|dataclass|overload|contextmanager")
+
+
+METHODS = set("""append clear copy count endswith extend find get index insert isalnum isalpha isdigit islower isspace
+isupper items join keys ljust lower lstrip partition pop remove replace reverse rfind rjust rpartition rsplit rstrip
+setdefault split splitlines startswith strip update upper values zfill bit_length""".split())
+
+# What may stand beside a walk that is not kept.
+WALKS = {"zip", "enumerate", "reversed", "range"}
+
+
+def top_names(tree):
+    """The classes and the imports of a file."""
+    return {node.name for node in tree.body if isinstance(node, ast.ClassDef)} | {
+        alias.asname or alias.name for node in tree.body if isinstance(node, ast.ImportFrom) for alias in node.names}
+
+
+def inner_names(tree):
+    """All names that the defs of a file give: parameters, locals, defs within defs."""
+    names = set()
+    for outer in ast.walk(tree):
+        if isinstance(outer, (ast.FunctionDef, ast.Lambda)):
+            for node in ast.walk(outer):
+                if isinstance(node, ast.FunctionDef) and node is not outer:
+                    names.add(node.name)
+                elif isinstance(node, ast.arg):
+                    names.add(node.arg)
+                elif isinstance(node, ast.Name) and not isinstance(node.ctx, ast.Load):
+                    names.add(node.id)
+    return names
 
 
 def names_bound(tree):
@@ -104,6 +134,72 @@ class LanguageTest(unittest.TestCase):
                     self.assertRegex(word, r"^[A-Za-z][A-Za-z0-9_]*$")
                 self.assertEqual(sorted(names_asked(tree) - bound - BUILTINS), [])
                 self.assertEqual(sorted(bound & BUILTINS), [])
+
+    def test_inner_names(self):
+        for name, tree in TREES.items():
+            with self.subTest(name):
+                self.assertEqual(sorted(inner_names(tree) & (top_names(tree) | set(dir(builtins)))), [])
+
+    def test_each_top_name_once(self):
+        for name, tree in TREES.items():
+            names = []
+            for node in tree.body:
+                if isinstance(node, (ast.FunctionDef, ast.ClassDef)):
+                    names.append(node.name)
+                elif isinstance(node, ast.ImportFrom):
+                    names += [alias.asname or alias.name for alias in node.names]
+                elif isinstance(node, ast.Assign):
+                    names += [target.id for target in node.targets]
+            with self.subTest(name):
+                self.assertEqual(len(names), len(set(names)))
+
+    def test_imports_are_used_and_come_from_the_file_that_defines_them(self):
+        for name, tree in TREES.items():
+            for node in tree.body:
+                if isinstance(node, ast.ImportFrom):
+                    source = TREES[node.module.split(".")[1] + ".py"]
+                    defined = {one.name for one in source.body if isinstance(one, (ast.FunctionDef, ast.ClassDef))}
+                    defined |= {one.targets[0].id for one in source.body if isinstance(one, ast.Assign)}
+                    for alias in node.names:
+                        with self.subTest(name, drawn=alias.name):
+                            self.assertIn(alias.name, defined)
+                            self.assertIn(alias.name, names_asked(tree))
+
+    def test_no_file_draws_from_itself_in_some_steps(self):
+        drawn = {name: {node.module.split(".")[1] + ".py" for node in tree.body if isinstance(node, ast.ImportFrom)}
+                 for name, tree in TREES.items()}
+        left = dict(drawn)
+        while left:
+            free = [name for name, sources in left.items() if not sources & set(left)]
+            self.assertNotEqual(free, [], left)
+            for name in free:
+                del left[name]
+
+    def test_is_stands_beside_none_and_truths(self):
+        for name, tree in TREES.items():
+            for node in ast.walk(tree):
+                if isinstance(node, ast.Compare) and any(isinstance(op, (ast.Is, ast.IsNot)) for op in node.ops):
+                    with self.subTest(name, line=node.lineno):
+                        self.assertIsInstance(node.comparators[-1], ast.Constant)
+                        self.assertIn(node.comparators[-1].value, (None, True, False))
+
+    def test_methods(self):
+        own = {node.name for tree in TREES.values() for one in tree.body if isinstance(one, ast.ClassDef)
+               for node in one.body if isinstance(node, ast.FunctionDef)}
+        for name, tree in TREES.items():
+            for node in ast.walk(tree):
+                if isinstance(node, ast.Call) and isinstance(node.func, ast.Attribute):
+                    with self.subTest(name, line=node.lineno):
+                        self.assertIn(node.func.attr, METHODS | own)
+
+    def test_walks_are_not_kept(self):
+        for name, tree in TREES.items():
+            for node in ast.walk(tree):
+                if isinstance(node, (ast.Assign, ast.AugAssign, ast.Return)) and isinstance(node.value, ast.Call):
+                    asked = node.value.func
+                    with self.subTest(name, line=node.lineno):
+                        self.assertNotIn(asked.id if isinstance(asked, ast.Name) else asked.attr,
+                                         WALKS | {"items", "keys", "values"})
 
 
 if __name__ == "__main__":

@@ -3,30 +3,11 @@
 import copy
 import unittest
 
+from brute import worth_at
 from samples import NO_PICTURES, PICTURES, SMALL
 from seamhall.errors import NoPicture
 from seamhall.pictures import mirrored, turned
 from seamhall.worths import worths
-
-
-def cell_at(picture, x, y):
-    """The cell (x, y), also beyond the ends, where it is as the last one there."""
-    wide, high = len(picture[0]), len(picture)
-    if x < 0:
-        x = 0
-    if x >= wide:
-        x = wide - 1
-    if y < 0:
-        y = 0
-    if y >= high:
-        y = high - 1
-    return picture[y][x]
-
-
-def worth_at(picture, x, y):
-    beside = abs(cell_at(picture, x - 1, y) - cell_at(picture, x + 1, y))
-    above = abs(cell_at(picture, x, y - 1) - cell_at(picture, x, y + 1))
-    return beside + above
 
 
 class WorthsTest(unittest.TestCase):
