@@ -132,10 +132,19 @@ def mean_behind(row, place):
     return (row[place] + row[following]) // 2
 
 
+def means_along(picture, seam):
+    """The cells that come behind those of the seam, where the picture is doubled at it."""
+    return tuple([mean_behind(row, place) for row, place in zip(picture, seam)])
+
+
+def seam_behind(seam):
+    """The places behind those of the seam, at which cells come."""
+    return tuple([place + 1 for place in seam])
+
+
 def doubled(picture, seam):
     """The picture with a cell behind each one of the seam: its mean with the next; None, where it is 20 wide."""
     need_seam(seam, picture)
     if len(picture[0]) == MOST_LONG:
         return None
-    cells = [mean_behind(row, place) for row, place in zip(picture, seam)]
-    return with_cells(picture, [place + 1 for place in seam], cells)
+    return with_cells(picture, seam_behind(seam), means_along(picture, seam))

@@ -23,17 +23,21 @@ def worth_at(picture, x, y):
     return beside + above
 
 
-def cost_at(picture, seam, y, manner):
-    """What the seam costs at its cell of row y."""
-    x = seam[y]
+def step_cost(picture, above, x, y, manner):
+    """What the cell (x, y) costs a seam that comes to it from this place in the row above; None, where y is 0."""
     if manner == "worth":
         return worth_at(picture, x, y)
     cost = abs(cell_at(picture, x - 1, y) - cell_at(picture, x + 1, y))
-    if y > 0 and seam[y - 1] == x - 1:
+    if above == x - 1:
         cost += abs(cell_at(picture, x, y - 1) - cell_at(picture, x - 1, y))
-    if y > 0 and seam[y - 1] == x + 1:
+    if above == x + 1:
         cost += abs(cell_at(picture, x, y - 1) - cell_at(picture, x + 1, y))
     return cost
+
+
+def cost_at(picture, seam, y, manner):
+    """What the seam costs at its cell of row y."""
+    return step_cost(picture, seam[y - 1] if y > 0 else None, seam[y], y, manner)
 
 
 @functools.lru_cache(maxsize=None)
@@ -71,6 +75,25 @@ def best(picture, manner, marks=None):
     """The best seam, or None."""
     told = [(rank(picture, seam, manner, marks), seam) for seam in open_seams(picture, marks)]
     return min(told)[1] if told else None
+
+
+@functools.lru_cache(maxsize=None)
+def swift_best(picture, manner, marks):
+    """What best tells, row by row from the last one up, for pictures that have too many seams to go through."""
+    tails = {}
+    for y in range(len(picture) - 1, -1, -1):
+        made = {}
+        for x in range(len(picture[0])):
+            beneath = [(less, price + step_cost(picture, x, after[0], y + 1, manner), after)
+                       for less, price, after in (tails[at] for at in (x - 1, x, x + 1) if at in tails)]
+            if y == len(picture) - 1:
+                beneath = [(0, 0, ())]
+            if marks[y][x] != 1 and beneath:
+                less, price, after = min(beneath)
+                made[x] = (less - (marks[y][x] == 2), price, (x,) + after)
+        tails = made
+    told = [(less, price + step_cost(picture, None, seam[0], 0, manner), seam) for less, price, seam in tails.values()]
+    return min(told)[2] if told else None
 
 
 def paper_at(picture, x, y, manner, marks):

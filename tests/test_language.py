@@ -192,6 +192,50 @@ class LanguageTest(unittest.TestCase):
                     with self.subTest(name, line=node.lineno):
                         self.assertIn(node.func.attr, METHODS | own)
 
+    def test_no_name_is_a_method_and_a_value(self):
+        methods, given = [], set()
+        for tree in TREES.values():
+            for one in tree.body:
+                if isinstance(one, ast.ClassDef):
+                    methods += [node.name for node in one.body if isinstance(node, ast.FunctionDef)]
+                    others = [node for node in one.body if not isinstance(node, (ast.FunctionDef, ast.Expr))]
+                    self.assertEqual(others, [])
+            given |= {node.attr for node in ast.walk(tree) if isinstance(node, ast.Attribute)
+                      and isinstance(node.ctx, ast.Store)}
+        self.assertEqual(sorted(given & set(methods)), [])
+        names = [name for name in methods if name not in UNDERSCORED]
+        self.assertEqual(sorted(names), sorted(set(names)))
+        for kind in (str, int, list, tuple, dict, set, bytes):
+            self.assertEqual(sorted((given | set(names)) & set(dir(kind))), [])
+
+    def test_asked_values_are_given_by_some_class(self):
+        given = {node.attr for tree in TREES.values() for node in ast.walk(tree)
+                 if isinstance(node, ast.Attribute) and isinstance(node.ctx, ast.Store)}
+        for name, tree in TREES.items():
+            called = {node.func for node in ast.walk(tree) if isinstance(node, ast.Call)}
+            for node in ast.walk(tree):
+                if isinstance(node, ast.Attribute) and isinstance(node.ctx, ast.Load) and node not in called:
+                    with self.subTest(name, line=node.lineno):
+                        self.assertIn(node.attr, given)
+
+    def test_underscored_methods_change_nothing(self):
+        for name, tree in TREES.items():
+            for method in ast.walk(tree):
+                if isinstance(method, ast.FunctionDef) and method.name in ("__eq__", "__repr__", "__str__", "__len__"):
+                    with self.subTest(name, method=method.name):
+                        self.assertIsInstance(method.body[-1], ast.Return)
+                        for node in ast.walk(method):
+                            self.assertNotIsInstance(node, (ast.Assign, ast.AugAssign, ast.Delete))
+
+    def test_errors_of_the_program_alone_are_taken(self):
+        own = {one.name for one in TREES["errors.py"].body if isinstance(one, ast.ClassDef)}
+        for name, tree in TREES.items():
+            for node in ast.walk(tree):
+                if isinstance(node, ast.ExceptHandler):
+                    taken = node.type.elts if isinstance(node.type, ast.Tuple) else [node.type]
+                    with self.subTest(name, line=node.lineno):
+                        self.assertLessEqual({one.id for one in taken}, own)
+
     def test_walks_are_not_kept(self):
         for name, tree in TREES.items():
             for node in ast.walk(tree):

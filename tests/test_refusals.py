@@ -6,7 +6,8 @@ import itertools
 import unittest
 
 from samples import NO_PICTURES, THINGS
-from seamhall import errors, ladders, ranks, seams, shrinking
+from seamhall import errors, flows, ladders, logs, ranks, seams, shrinking, texts
+from seamhall.desks import Desk
 
 PICTURE = ((5, 9, 2), (40, 7, 60), (8, 8, 1), (0, 99, 30))
 OTHER = ((1, 0, 2), (3, 7, 6), (8, 4, 1), (0, 9, 3))
@@ -16,6 +17,7 @@ CELLS = (0, 99, 5, 6)
 MARKS = ((0, 0, 2), (0, 0, 1), (0, 0, 0), (2, 0, 0))
 TABLE = ((0, 1, 2), (1, 0, 2), (1, 0, 2), (1, 2, 0))
 STEPS = [((0, 0, 1, 1), (5, 6, 7, 8)), (WIDER_SEAM, CELLS)]
+DEEDS = [("keep", 0, 0, 1, 2), ("narrow",), ("flatten",), ("drop", 0, 1, 1, 1), ("widen",)]
 
 NO_MANNERS = [thing for thing in THINGS if thing not in ("worth", "joins")]
 NO_MANNERS += ["WORTH", "join", "worth\n", " joins", ("worth", "joins"), ["joins"]]
@@ -53,6 +55,16 @@ NO_STEPS = [thing for thing in THINGS if thing != []] + [
     [(SEAM, CELLS)] * 18, [None] * 17,
 ]
 
+NO_DEEDS = [thing for thing in THINGS if thing != []] + [
+    tuple(DEEDS), DEEDS + [None], [DEEDS], DEEDS + [()], DEEDS + [("narrow", 1)], DEEDS + [["narrow"]],
+    DEEDS + ["narrow"], DEEDS + [("keep", 0, 0, 1)], DEEDS + [("keep", 0, 0, 1, True)], DEEDS + [("keep", 0, -1, 1, 1)],
+    DEEDS + [("keep", 0, 0, 21, 1)], [("keep", 0, 0, 1, [1])], [(["keep"], 0, 0, 1, 1)], [("back",)], "narrow\n",
+]
+
+NO_TEXTS = [thing for thing in THINGS if thing not in ("", "1 2 3\n")] + [
+    "1 2 3", "01 2\n", "k.\nk\n", "1 2\n3\n", "narrow", "keep 0 0 1\n", "\n", ["1 2\n"], ("narrow\n",), SEAM, DEEDS,
+]
+
 NO_PICTURE_LISTS = [thing for thing in THINGS if thing not in ([((1, 2, 3), (40, 50, 60))], [((0,), (0,))])]
 NO_PICTURE_LISTS += [PICTURE, (PICTURE,), (PICTURE, OTHER), [PICTURE, None], [None, PICTURE], [PICTURE, PICTURE[:3]],
                      [PICTURE, tuple(row[:2] for row in PICTURE)], [PICTURE, tuple(zip(*PICTURE))], [[PICTURE]],
@@ -64,6 +76,12 @@ NO_PICTURE_LISTS += [[thing] for thing in NO_PICTURES.values()] + [[PICTURE, thi
 def things_but(right):
     """Things of all kinds, but the whole numbers that are right."""
     return [thing for thing in THINGS if type(thing) is not int or thing not in right]
+
+
+def is_some_marks(thing):
+    """Whether things of the list above, no marks of its picture, are marks of another one."""
+    return thing in (((0,),), MARKS[:3], MARKS + ((0, 0, 0),), tuple(row[:2] for row in MARKS),
+                     tuple(row + (0,) for row in MARKS), ((0,) * 4,) * 3)
 
 
 def texts_but(right):
@@ -88,6 +106,14 @@ PLACES = {
     "many": (5, things_but(range(1, 61)), errors.NoNumber),
     "table": (TABLE, NO_TABLES, errors.NoTable),
     "steps": (STEPS, NO_STEPS, errors.NoDeeds),
+    "few": (3, things_but(range(1, 7)) + [7, "1", (1,)], errors.NoNumber),
+    "deeds": (DEEDS, NO_DEEDS, errors.NoDeeds),
+    "any wide": (2, [], None),
+    "any high": (3, [], None),
+    "some marks": (MARKS, [None] + [thing for thing in NO_MARKS if not is_some_marks(thing)], errors.NoMarks),
+    "picture text": ("5 9\n40 7\n", NO_TEXTS + [""], errors.NoText),
+    "marks text": (".k\nd.\n", NO_TEXTS + ["", "1 2 3\n"], errors.NoText),
+    "log text": ("narrow\nkeep 0 0 1 1\n", NO_TEXTS + ["1 2 3\n"], errors.NoText),
     "text": ("crr", texts_but(("", "c", "r", "cr")) + ["ccc", "rrrr", "crx"], errors.NoDeeds),
 }
 
@@ -120,6 +146,17 @@ CALLS = [
     (ladders.seams_of, "picture table", "picture table"),
     (ladders.at_width, "picture table wide", "picture table wide"),
     (ladders.widened, "picture table wider", "picture table wider"),
+    (flows.together, "picture few", "picture few"),
+    (flows.prices, "picture few", "picture few"),
+    (Desk, "picture manner", "picture manner"),
+    (logs.replayed, "picture deeds manner", "picture manner deeds"),
+    (logs.fitted, "picture any_wide any_high manner", "picture manner"),
+    (texts.picture_text, "picture", "picture"),
+    (texts.read_picture, "picture_text", "picture_text"),
+    (texts.marks_text, "some_marks", "some_marks"),
+    (texts.read_marks, "marks_text", "marks_text"),
+    (texts.log_text, "deeds", "deeds"),
+    (texts.read_log, "log_text", "log_text"),
 ]
 
 LEFT_OUT = {"manner": "worth", "marks": None}
@@ -205,7 +242,9 @@ class RefusedTest(unittest.TestCase):
                 (ranks.seam_at, (broad, 0), {"marks": wall}, errors.NoNumber),
                 (ranks.best_seams, (broad, 61), {"marks": wall}, errors.NoNumber),
                 (shrinking.narrowed, (broad, 21), {"marks": wall}, errors.NoWidth),
-                (shrinking.history, (broad, 0), {"marks": wall}, errors.NoWidth)):
+                (shrinking.history, (broad, 0), {"marks": wall}, errors.NoWidth),
+                (flows.together, (slim, 7), {}, errors.NoNumber),
+                (flows.prices, (slim, True), {}, errors.NoNumber)):
             with self.assertRaises(error):
                 function(*things, **named)
 
@@ -245,11 +284,11 @@ class ToldTest(unittest.TestCase):
     def test_these_tell_lists_and_the_others_none(self):
         told = {function.__name__ for function, text, order in CALLS
                 if isinstance(asked(function, text, right_for(function, text)), list)}
-        self.assertEqual(told, {"best_seams", "history", "cleared", "seams_of"})
+        self.assertEqual(told, {"best_seams", "history", "cleared", "seams_of", "together", "read_log"})
 
     def test_what_is_told_within_is_tuples(self):
         def check(thing):
-            self.assertIn(type(thing), (tuple, int, str, bool, type(None)))
+            self.assertIn(type(thing), (tuple, int, str, bool, type(None), Desk))
             for part in thing if isinstance(thing, tuple) else ():
                 check(part)
         for function, text, order in CALLS:
